@@ -1,0 +1,1 @@
+"""Lettolls: tolls of gates let to those who bid."""
