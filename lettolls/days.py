@@ -1,10 +1,10 @@
 """Days, kept as spans; quarters and years."""
 
+from lettolls.plain import number_in
+
 LAST_DAY = 3639
-DAY_FIGURES = 4
 QUARTER_DAYS = 91
 YEAR_DAYS = 364
-FIGURES = "0123456789"
 
 
 def merged(pairs):
@@ -77,22 +77,11 @@ class Days:
         return f"Days({self.pairs})"
 
 
-def day_in(word):
-    """The day that a word of figures tells, None where it tells none."""
-    if word == "" or len(word) > DAY_FIGURES:
-        return None
-    # int() alone would take signs that are no plain figures, as _ and +
-    if not all([sign in FIGURES for sign in word]):
-        return None
-    day = int(word)
-    return day if day <= LAST_DAY else None
-
-
 def span_in(word):
     """The pair (first, last) that a word tells, None where it tells none."""
     head, dash, tail = word.partition("-")
-    first = day_in(head)
-    last = day_in(tail) if dash else first
+    first = number_in(head, LAST_DAY)
+    last = number_in(tail, LAST_DAY) if dash else first
     if first is None or last is None or first > last:
         return None
     return (first, last)
@@ -106,7 +95,7 @@ def days_in(text):
     if None in spans:
         return None
     days = Days(spans)
-    # noughts ahead, and spans that fall, touch or overlap, are told otherwise by str
+    # spans that fall, touch or overlap, and a day by itself written as a pair, are told otherwise by str
     return days if str(days) == text else None
 
 

@@ -15,6 +15,14 @@ BUILTINS = ("len range enumerate zip min max sum abs sorted reversed int str boo
             "LookupError ZeroDivisionError ArithmeticError OverflowError RuntimeError NotImplementedError "
             "AttributeError StopIteration NotImplemented").split()
 DOUBLE = "__init__ __eq__ __repr__ __str__ __len__".split()
+# of the methods of builtin values those that the rules list first, without .sort()
+METHODS = ("append clear copy count endswith extend find get index insert isalnum isalpha isdigit islower isspace "
+           "isupper items join keys ljust lower lstrip partition pop remove replace reverse rfind rjust rpartition "
+           "rsplit rstrip setdefault split splitlines startswith strip update upper values zfill bit_length "
+           "add discard").split()
+BARRED_NAMES = ("register mro elements open input version_info with_traceback add_note attrgetter breakpoint builtins "
+                "compile copyright credits delattr dir eval exec exit gc getattr globals hasattr help id importlib "
+                "license locals methodcaller os quit setattr super type vars sys").split()
 
 
 def nodes(*kinds):
@@ -22,6 +30,19 @@ def nodes(*kinds):
         for node in ast.walk(tree):
             if isinstance(node, kinds):
                 yield name, node
+
+
+def imports_of(tree):
+    return {part.name for node in tree.body if isinstance(node, ast.ImportFrom) for part in node.names}
+
+
+def names_at_module_level(tree):
+    """The names that a file binds itself."""
+    names = [node.name for node in tree.body if isinstance(node, (ast.FunctionDef, ast.ClassDef))]
+    for node in tree.body:
+        if isinstance(node, ast.Assign):
+            names += [target.id for target in node.targets]
+    return names
 
 
 class Files(unittest.TestCase):
@@ -51,6 +72,28 @@ class Files(unittest.TestCase):
             self.assertRegex(node.module, r"\Alettolls\.[a-z_]+\Z", name)
             self.assertIn(node.module.partition(".")[2] + ".py", TREES, name)
             self.assertEqual((node.level, node.col_offset), (0, 0), name)
+
+
+    def test_imports_name_the_file_that_defines_the_name(self):
+        for name, node in nodes(ast.ImportFrom):
+            defined = names_at_module_level(TREES[node.module.partition(".")[2] + ".py"])
+            for part in node.names:
+                self.assertIsNone(part.asname, name)
+                self.assertIn(part.name, defined, f"{name} {part.name}")
+
+    def test_what_is_imported_is_used(self):
+        for name, tree in TREES.items():
+            used = {node.id for node in ast.walk(tree) if isinstance(node, ast.Name)}
+            self.assertLessEqual(imports_of(tree), used, name)
+
+    def test_no_two_files_import_from_each_other(self):
+        left = {name: {node.module.partition(".")[2] + ".py" for node in tree.body if isinstance(node, ast.ImportFrom)}
+                for name, tree in TREES.items()}
+        while left:
+            free = [name for name in left if not left[name] & set(left)]
+            self.assertTrue(free, f"a ring of imports among {sorted(left)}")
+            for name in free:
+                del left[name]
 
 
 class Rows(unittest.TestCase):
@@ -104,6 +147,58 @@ class Rows(unittest.TestCase):
                    for part in node.body if isinstance(part, ast.FunctionDef)}
         attributes = {node.attr for _, node in nodes(ast.Attribute) if isinstance(node.ctx, ast.Store)}
         self.assertFalse(methods & attributes)
+
+    def test_a_name_is_bound_once_at_module_level(self):
+        for name, tree in TREES.items():
+            names = names_at_module_level(tree) + sorted(imports_of(tree))
+            self.assertEqual(len(names), len(set(names)), name)
+
+    def test_no_local_name_is_that_of_a_class_or_an_import(self):
+        for name, tree in TREES.items():
+            taken = imports_of(tree) | {node.name for node in tree.body if isinstance(node, ast.ClassDef)}
+            for node in ast.walk(tree):
+                if isinstance(node, ast.arg):
+                    self.assertNotIn(node.arg, taken, name)
+                if isinstance(node, ast.Name) and isinstance(node.ctx, ast.Store):
+                    self.assertNotIn(node.id, taken, name)
+
+    def test_barred_names(self):
+        for name, node in nodes(ast.FunctionDef, ast.ClassDef, ast.Name, ast.Attribute, ast.arg, ast.keyword):
+            for word in [getattr(node, field, None) for field in ("name", "id", "attr", "arg")]:
+                self.assertNotIn(word, BARRED_NAMES, name)
+
+    def test_methods_are_own_ones_or_listed(self):
+        own = {part.name for _, node in nodes(ast.ClassDef) for part in node.body if isinstance(part, ast.FunctionDef)}
+        for name, node in nodes(ast.Call):
+            if isinstance(node.func, ast.Attribute):
+                self.assertIn(node.func.attr, own | set(METHODS), name)
+
+    def test_module_level_has_plain_values(self):
+        for name, tree in TREES.items():
+            for node in tree.body:
+                if isinstance(node, ast.Assign):
+                    inside = list(ast.walk(node.value))[1:]
+                    barred = (ast.Call, ast.List, ast.Dict, ast.Set, ast.ListComp, ast.Subscript, ast.Lambda)
+                    self.assertFalse([part for part in inside if isinstance(part, barred)], name)
+
+    def test_sets_stand_in_sorted_and_len_only(self):
+        held = [part for _, node in nodes(ast.Call) if isinstance(node.func, ast.Name)
+                and node.func.id in ("sorted", "len") for part in node.args]
+        for name, node in nodes(ast.Call, ast.SetComp, ast.Set):
+            if not isinstance(node, ast.Call) or isinstance(node.func, ast.Name) and node.func.id == "set":
+                self.assertIn(node, held, name)
+
+    def test_errors_are_raised_on_the_spot_and_none_of_pythons_is_caught(self):
+        for name, node in nodes(ast.Raise):
+            self.assertIsInstance(node.exc, ast.Call, name)
+            self.assertIsInstance(node.exc.func, ast.Name, name)
+        for name, node in nodes(ast.ExceptHandler):
+            self.assertIsInstance(node.type, ast.Name, name)
+            self.assertFalse(hasattr(builtins, node.type.id), name)
+
+    def test_escapes(self):
+        for path in FILES:
+            self.assertNotRegex(path.read_text().replace("\\\\", ""), r"\\[^nt\"']", path.name)
 
 
 if __name__ == "__main__":
