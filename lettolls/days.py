@@ -111,3 +111,19 @@ def quarter_span(quarter):
     """The pair of the quarter's first and last days."""
     first = quarter * QUARTER_DAYS
     return (first, first + QUARTER_DAYS - 1)
+
+
+def year_span(year):
+    """The pair of the year's first and last days."""
+    first = year * YEAR_DAYS
+    return (first, first + YEAR_DAYS - 1)
+
+
+def runs_of(marks):
+    """The stretches (first, last, what), each as long as can be, of rising pairs (day, what): so from that day on."""
+    found = []
+    for day, what in marks:
+        if not found or found[-1][1] != what:
+            found.append((day, what))
+    ends = [day - 1 for day, what in found[1:]] + [LAST_DAY]
+    return [(first, last, what) for (first, what), last in zip(found, ends)]

@@ -118,3 +118,8 @@ def in_order(entries):
 def shut_days(entries, gate):
     """The Days that the entries tell the gate shut."""
     return Days([entry[4:6] for entry in entries if entry[2] == "shut" and entry[3] == gate])
+
+
+def shut_on(entries, day):
+    """The gates, maybe several times, that the entries tell shut on the day."""
+    return [entry[3] for entry in entries if entry[2] == "shut" and entry[4] <= day <= entry[5]]

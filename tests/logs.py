@@ -1,9 +1,12 @@
-"""Entries, for the tests of entries and rolls."""
+"""Entries and logs, for the tests of entries, rolls and all that follows of them."""
+from lettolls.holding import Held
 from lettolls.roads import Roads
+from lettolls.rolls import read_roll
 
 ROADS = Roads([("york", "hull", ("east", "mid", "west")), ("hull", "goole", ("quay",)), ("selby", "york", ())])
 TABLE = (("cow", 0, None, 2, 1, 1), ("", 0, 9, 5, 0, 1))
 FOUR = (("bob", 1), ("cat", 99), ("dan", 2), ("eve", 1))
+NAMES = ["ann", "bob", "cat", "dan", "eve", "abcdefgh", "fay", "gus", "hal", "ida"]
 
 # one of each word
 ENTRIES = {
@@ -34,7 +37,7 @@ TEXTS = {
 
 
 def some_sureties(chance, but):
-    names = [name for name in ("ann", "bob", "cat", "dan", "eve", "abcdefgh") if name != but]
+    names = [name for name in NAMES[:6] if name != but]
     return tuple((name, chance.randint(1, 99)) for name in chance.sample(names, chance.randint(0, 4)))
 
 
@@ -53,7 +56,7 @@ def some_entry(chance, number):
     first = chance.randint(day, 3639)
     last = chance.randint(first, 3639)
     pence = chance.choice([1, 10 ** 6, chance.randint(1, 10 ** 6)])
-    name, other = chance.sample(["ann", "bob", "cat", "dan", "eve", "abcdefgh"], 2)
+    name, other = chance.sample(NAMES[:6], 2)
     gate = chance.choice(ROADS.gates())
     gates = chance.choice([("east", "west"), ("mid", "mid"), ("east", "mid"), ("quay", "quay")])
     word = chance.choice(sorted(ENTRIES))
@@ -75,3 +78,74 @@ def some_entry(chance, number):
 def some_log(chance, many):
     """So many entries of unlike numbers, in any order."""
     return [some_entry(chance, number) for number in chance.sample(range(1, 10000), many)]
+
+
+def told_by(text, roads=ROADS):
+    """The entries of roads that rows tell, each without the blanks around it."""
+    return read_roll(roads, "\n".join(row.strip() for row in text.split("\n")))
+
+
+def held_by(text, roads=ROADS):
+    return Held(roads, told_by(text, roads))
+
+
+GATES_BID = [("east", "west"), ("mid", "mid"), ("east", "mid"), ("west", "west"), ("quay", "quay")]
+
+
+def some_last(chance, first, last):
+    return chance.choice([first, last, last, chance.randint(first, last)])
+
+
+def some_bid(chance, day, pence):
+    name = chance.choice(NAMES)
+    year = min(9, day // 364 + chance.choice([1, 1, 1, 2]))
+    return day, "bid", year, name, *chance.choice(GATES_BID), pence + 1, some_sureties(chance, name)
+
+
+def some_letting(chance, held, day, pence):
+    """An under by the gate's holder, or an anew where it is let to none."""
+    gate = chance.choice(ROADS.gates())
+    late = min(3639, day + chance.choice([0, 0, 0, 5, 60, 200]))
+    first, last, giver = [row for row in held.stretches(gate) if row[0] <= late <= row[1]][0]
+    first, last = max(first, day), min(3639, last + (chance.random() < 0.1))
+    taker = chance.choice([name for name in NAMES if name != giver])
+    if giver == "TRUST":
+        end = max(day, min(last, day // 364 * 364 + 363))
+        return day, "anew", taker, gate, some_last(chance, day, end), pence, some_sureties(chance, taker)
+    start = chance.randint(first, last)
+    return day, "under", giver, taker, gate, start, some_last(chance, start, last), pence
+
+
+def some_fail(chance, held, day):
+    """A fail of one who has taken a lease, mostly."""
+    takers = [lease[4] for lease in held.leases() if lease[6] >= day - 50]
+    return day, "fail", chance.choice(takers or NAMES)
+
+
+def some_shut_gate(chance, day):
+    first = min(3639, day + chance.randint(0, 50))
+    return day, "shut", chance.choice(ROADS.gates()), first, some_last(chance, first, min(3639, first + 100))
+
+
+def some_deed(chance, held, day):
+    """The parts behind the number of an entry that mostly can be done, where held is who holds by then."""
+    pence = chance.choice([0, 1, 7, 100, 1000, chance.randint(0, 10 ** 6 - 1)])
+    word = chance.choices(["bid", "let", "letting", "fail", "shut"], [5, 2, 12, 2, 1])[0]
+    if word == "bid":
+        return some_bid(chance, day, pence)
+    if word == "let":
+        return day, "let", min(9, day // 364 + 1)
+    if word == "letting":
+        return some_letting(chance, held, day, pence)
+    return some_fail(chance, held, day) if word == "fail" else some_shut_gate(chance, day)
+
+
+def some_story(chance, many):
+    """So many entries, in any order, by most of which something is done: gates are let, let on, and let anew."""
+    days = sorted(chance.choice([chance.randint(0, 363), chance.randint(300, 700), chance.randint(300, 700),
+                                 chance.randint(0, 3639)]) for _ in range(many))
+    entries = []
+    for number, day in zip(chance.sample(range(1, 10000), many), days):
+        entries.append((number, *some_deed(chance, Held(ROADS, entries), day)))
+    chance.shuffle(entries)
+    return entries

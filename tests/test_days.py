@@ -3,7 +3,7 @@ import random
 import re
 import unittest
 
-from lettolls.days import Days, days_in, quarter_of, quarter_span, year_of
+from lettolls.days import Days, days_in, quarter_of, quarter_span, runs_of, year_of, year_span
 
 HUNDRED = [(36 * at, 36 * at + 5) for at in range(100)]
 
@@ -392,6 +392,7 @@ class QuartersAndYears(unittest.TestCase):
         for year in range(10):
             self.assertEqual(year_of(364 * year), year)
             self.assertEqual(year_of(364 * year + 363), year)
+            self.assertEqual(year_span(year), (364 * year, 364 * year + 363))
         self.assertEqual((year_of(0), year_of(363), year_of(364), year_of(3639)), (0, 0, 1, 9))
 
     def test_every_day_is_in_its_quarter(self):
@@ -400,6 +401,20 @@ class QuartersAndYears(unittest.TestCase):
             self.assertTrue(first <= day <= last)
             self.assertEqual(quarter_of(day) // 4, year_of(day))
         self.assertEqual((quarter_of(0), quarter_of(90), quarter_of(91), quarter_of(3639)), (0, 0, 1, 39))
+
+
+class RunsOf(unittest.TestCase):
+    def test_each_as_long_as_can_be(self):
+        self.assertEqual(runs_of([(0, "a")]), [(0, 3639, "a")])
+        self.assertEqual(runs_of([(0, "a"), (5, "b")]), [(0, 4, "a"), (5, 3639, "b")])
+        self.assertEqual(runs_of([(0, "a"), (5, "a"), (9, "b"), (3639, "a")]),
+                         [(0, 8, "a"), (9, 3638, "b"), (3639, 3639, "a")])
+        self.assertEqual(runs_of([(0, "a"), (5, "a"), (9, "a")]), [(0, 3639, "a")])
+
+    def test_the_list_handed_in_stays(self):
+        marks = [(0, "a"), (5, "a"), (9, "b")]
+        runs_of(marks)
+        self.assertEqual(marks, [(0, "a"), (5, "a"), (9, "b")])
 
 
 if __name__ == "__main__":

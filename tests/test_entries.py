@@ -3,7 +3,7 @@ import random
 import unittest
 
 from lettolls.days import Days
-from lettolls.entries import in_order, is_entry, shut_days
+from lettolls.entries import in_order, is_entry, shut_days, shut_on
 from lettolls.roads import Roads
 from logs import ENTRIES, FOUR, ROADS, TABLE, some_entry, some_log
 from things import THINGS, deep, some_thing, with_part
@@ -327,6 +327,20 @@ class ShutDays(unittest.TestCase):
 
     def test_arguments_by_their_names(self):
         self.assertEqual(len(shut_days(entries=[(1, 0, "shut", "east", 3, 7)], gate="east")), 5)
+
+
+class ShutOn(unittest.TestCase):
+    def test_days(self):
+        entries = [(1, 2, "shut", "east", 3, 7), (2, 0, "shut", "west", 7, 7), (3, 0, "free", "mid", 0, 9)]
+        for day, gates in ((2, []), (3, ["east"]), (6, ["east"]), (7, ["east", "west"]), (8, [])):
+            self.assertEqual(shut_on(entries, day), gates)
+
+    def test_as_the_shut_days_of_gates(self):
+        chance = random.Random(85)
+        entries = some_log(chance, 100)
+        for day in range(0, 3640, 7):
+            gates = [gate for gate in ROADS.gates() if shut_days(entries, gate).has(day)]
+            self.assertEqual(sorted(set(shut_on(entries, day))), gates)
 
 
 if __name__ == "__main__":
