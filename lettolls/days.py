@@ -5,6 +5,7 @@ from lettolls.plain import number_in
 LAST_DAY = 3639
 QUARTER_DAYS = 91
 YEAR_DAYS = 364
+QUARTERS = 40
 
 
 def merged(pairs):

@@ -48,7 +48,7 @@ def borne(held, gate, day):
     if not shut_days(held.log(), gate).has(day):
         return []
     rows = held.leases()
-    names = [TRUST, *[rows[lease][4] for lease in chain]]
+    names = [TRUST] + [rows[lease][4] for lease in chain]
     parts = [parts_on(rows[lease], Days([(day, day)])) for lease in chain]
     # each one gives the lease behind, and took the one ahead: TRUST took none, the last one gives none
     return [(name, given - taken) for name, given, taken in zip(names, [*parts, 0], [0, *parts])]

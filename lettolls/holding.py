@@ -4,7 +4,7 @@ from lettolls.bids import best_bids
 from lettolls.chains import TRUST, Chains, chain_at
 from lettolls.days import runs_of, year_span
 from lettolls.entries import in_order, shut_on
-from lettolls.passing import least_way
+from lettolls.passing import least_way, no_tolls
 from lettolls.roads import Roads
 from lettolls.shares import split_by
 
@@ -95,8 +95,7 @@ def try_fail(held, entry):
 
 def try_load(held, entry):
     number, day, word, kind, units, one, other = entry
-    tolls = [(gate, 0) for gate in held.own_roads.gates()]
-    way = least_way(held.own_roads, tolls, one, other, shut_on(held.own_log, day))
+    way = least_way(held.own_roads, no_tolls(held.own_roads), one, other, shut_on(held.own_log, day))
     return "none" if way is None else None
 
 

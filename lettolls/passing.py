@@ -12,6 +12,11 @@ def tolls_by_road(roads, tolls, shut=None):
     return found
 
 
+def no_tolls(roads):
+    """Tolls of roads where none is taken."""
+    return [(gate, 0) for gate in roads.gates()]
+
+
 def lead_on(best, near, far, road, toll):
     """Takes the best way to near, led on by a road to far, as the best one to far, where it is better."""
     if near not in best:

@@ -149,3 +149,45 @@ def some_story(chance, many):
         entries.append((number, *some_deed(chance, Held(ROADS, entries), day)))
     chance.shuffle(entries)
     return entries
+
+
+def some_toll_rows(chance):
+    """A table by which a load of few units pays little."""
+    rows = []
+    for _ in range(chance.randint(0, 3)):
+        least = chance.choice([0, 0, 5])
+        rows.append((chance.choice(["", "", "cow"]), least, chance.choice([None, least, least + 9]),
+                     chance.randint(0, 5), chance.randint(0, 3), chance.randint(1, 12)))
+    return tuple(rows)
+
+
+def some_traffic(chance, numbers, roads=ROADS):
+    """Entries of these numbers by which loads pass, on few days, so that several pass by one table and gate."""
+    days = [chance.randint(300, 800) for _ in range(4)]
+    entries = []
+    for number in numbers:
+        day = chance.choice(days)
+        gate = chance.choice(roads.gates())
+        kind = chance.choice(["cow", "pig", "ewe"])
+        first = min(3639, day + chance.choice([0, 0, 1]))
+        last = chance.choice([first, first + 1, 801])
+        word = chance.choices(["load", "table", "free", "shut", "taken"], [10, 8, 1, 1, 2])[0]
+        parts = {
+            "load": (kind, chance.randint(0, 20), chance.choice(roads.places()), chance.choice(roads.places())),
+            "table": (gate, some_toll_rows(chance)),
+            "free": (kind, first, last),
+            "shut": (gate, first, min(last, first + 1)),
+            "taken": (gate, chance.randint(0, 20)),
+        }
+        entries.append((number, day, word, *parts[word]))
+    return entries
+
+
+def some_whole_log(chance, many):
+    """A story of so many entries, and as many by which loads pass, in any order."""
+    entries = some_story(chance, many)
+    numbers = [number for number in chance.sample(range(1, 10000), 2 * many)
+               if number not in [entry[0] for entry in entries]]
+    entries += some_traffic(chance, numbers[:many])
+    chance.shuffle(entries)
+    return entries

@@ -181,3 +181,59 @@ class Model:
         if not sureties:
             return [], total
         return list(zip(dict(sureties), by_weights(total, [weight for name, weight in sureties]))), 0
+
+    def table(self, gate, day):
+        table = ()
+        for entry in self.log:
+            if entry[2] == "table" and entry[3] == gate and entry[1] <= day:
+                table = entry[4]
+        return table
+
+    def toll(self, gate, day, kind, units):
+        if any(e[2] == "free" and e[3] == kind and e[4] <= day <= e[5] for e in self.log):
+            return 0
+        for name, least, most, pence, each, per in self.table(gate, day):
+            if name in ("", kind) and least <= units and (most is None or units <= most):
+                return pence + each * -(-units // per)
+        return 0
+
+    def passes(self):
+        told = []
+        for entry in self.log:
+            if entry[2] == "load" and (entry[0], "none") not in self.voids:
+                told += self.passes_of(entry)
+        return told
+
+    def passes_of(self, load):
+        number, day, word, kind, units, one, other = load
+        tolls = {gate: self.toll(gate, day, kind, units) for gate in self.roads.gates()}
+        way = min(all_ways(self.roads, tolls.items(), one, other, self.shut_gates(day)))[2]
+        gates, place = [], one
+        for road in way:
+            left, right, between = self.roads.rows()[road]
+            gates += between if place == left else reversed(between)
+            place = right if place == left else left
+        return [(number, day, gate, tolls[gate], self.holder(gate, day), f"{16 * number + at:05X}")
+                for at, gate in enumerate(gates)]
+
+    def takings(self):
+        places = {(day, gate, holder) for number, day, gate, pence, holder, ticket in self.passes()}
+        told = [(*place, sum(row[3] for row in self.passes() if (row[1], row[2], row[4]) == place)) for place in places]
+        return sorted(row for row in told if row[3])
+
+    def books_part(self):
+        paid = {(day, gate): pence for day, gate, holder, pence in self.takings()}
+        for place in sorted((day, gate) for day in {entry[1] for entry in self.log} for gate in self.roads.gates()):
+            told = sum(entry[4] for entry in self.log if entry[2] == "taken" and (entry[1], entry[3]) == place)
+            if told != paid.get(place, 0):
+                return *place, paid.get(place, 0), told
+
+    def balances(self):
+        moves = [(None, holder, pence) for day, gate, holder, pence in self.takings()]
+        for quarter in range(40):
+            moves += [(taker, giver, pence) for giver, taker, gate, lease, pence in self.dues_at(quarter)]
+        for row in self.fallen():
+            moves += [(surety, row[2], pence) for surety, pence in row[5]]
+        names = {name for one, other, pence in moves for name in (one, other)} - {None}
+        told = [(name, sum(pence * ((other == name) - (one == name)) for one, other, pence in moves)) for name in names]
+        return sorted(pair for pair in told if pair[1])

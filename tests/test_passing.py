@@ -1,7 +1,7 @@
 import random
 import unittest
 
-from lettolls.passing import least_tolls, least_way
+from lettolls.passing import least_tolls, least_way, no_tolls
 from lettolls.roads import Roads
 from nets import GREAT, all_ways, some_roads, some_shut, some_tolls
 
@@ -205,6 +205,14 @@ class LeastTolls(unittest.TestCase):
         told.clear()
         self.assertEqual(again, [("x", 0), ("y", 4)])
         self.assertEqual(least_tolls(SQUARE, tolls, "x"), [("x", 0), ("y", 4)])
+
+
+class NoTolls(unittest.TestCase):
+    def test_each_gate_once(self):
+        roads = Roads([("a", "b", ("l", "k")), ("b", "c", ())])
+        self.assertEqual(sorted(no_tolls(roads)), [("k", 0), ("l", 0)])
+        self.assertEqual(least_way(roads, no_tolls(roads), "a", "c"), (0, [0, 1]))
+        self.assertEqual(no_tolls(Roads([])), [])
 
 
 if __name__ == "__main__":
